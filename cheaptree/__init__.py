@@ -1,0 +1,1 @@
+"""Cheaptree: the cheapest ties that hold all places together, while ties come and go."""
