@@ -24,9 +24,9 @@ def is_rising(words):
     return all([low < high for low, high in zip(words, words[1:])])
 
 
-def are_places(thing):
+def are_words(thing):
     """Whether thing, which may be anything, is a rising tuple of unlike words."""
-    if not isinstance(thing, tuple) or not all([is_word(place) for place in thing]):
+    if not isinstance(thing, tuple) or not all([is_word(part) for part in thing]):
         return False
     return is_rising(thing)
 
@@ -53,7 +53,7 @@ def is_net(thing):
     """Whether thing, which may be anything, is a net, of whatever size."""
     if not isinstance(thing, tuple) or len(thing) != 2:
         return False
-    return are_places(thing[0]) and are_ties(thing[1])
+    return are_words(thing[0]) and are_ties(thing[1])
 
 
 def empty():
@@ -76,7 +76,12 @@ def waiting(net):
     return tuple([tie[0] for tie in net[1] if not is_open(net, tie)])
 
 
+def ranks(net):
+    """For each name of a tie what decides which of two ties is cheaper: the cost, then the name."""
+    return {tie[0]: (tie[3], tie[0]) for tie in net[1]}
+
+
 def cheaper(net, name, other):
     """Whether the tie called name is cheaper than another one; of alike costs the name decides."""
-    costs = {tie[0]: tie[3] for tie in net[1]}
-    return (costs[name], name) < (costs[other], other)
+    rank = ranks(net)
+    return rank[name] < rank[other]

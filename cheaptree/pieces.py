@@ -4,27 +4,35 @@ from cheaptree.nets import is_open
 
 
 def neighbours(net):
-    """For each place of the net the places at the other ends of its open ties."""
+    """For each place of the net the pairs (name, place at the other end) of its open ties."""
     beside = {place: [] for place in net[0]}
     for tie in net[1]:
         if is_open(net, tie):
-            beside[tie[1]].append(tie[2])
-            beside[tie[2]].append(tie[1])
+            beside[tie[1]].append((tie[0], tie[2]))
+            beside[tie[2]].append((tie[0], tie[1]))
     return beside
 
 
-def reached(beside, start):
-    """The rising list of the places to which one comes from start, start among them."""
-    seen = {start}
+def came_by(beside, start):
+    """For each place to which one comes from start the pair (name, place) of the last tie and the place ahead of it.
+
+    Of start itself, to which no tie leads, None.
+    """
+    come = {start: None}
     ahead = [start]
     # A list of places ahead, as calls within calls would bound how long a way may be.
     while ahead:
         here = ahead.pop()
-        for place in beside[here]:
-            if place not in seen:
-                seen.add(place)
+        for name, place in beside[here]:
+            if place not in come:
+                come[place] = (name, here)
                 ahead.append(place)
-    return sorted(seen)
+    return come
+
+
+def reached(beside, start):
+    """The rising tuple of the places to which one comes from start, start among them."""
+    return tuple(sorted(came_by(beside, start)))
 
 
 def pieces(net):
@@ -38,5 +46,5 @@ def pieces(net):
             piece = reached(beside, start)
             for place in piece:
                 seen.add(place)
-            told.append(tuple(piece))
+            told.append(piece)
     return tuple(told)

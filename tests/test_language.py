@@ -74,3 +74,24 @@ class LanguageTest(unittest.TestCase):
             if isinstance(node, ast.arg):
                 self.assertFalse(hasattr(builtins, node.arg), where)
                 self.assertFalse(node.arg.startswith("_"), where)
+
+    def test_what_is_drawn_in_is_used_and_nothing_else_is_called_so(self):
+        for path in files():
+            tree = ast.parse(path.read_text("ascii"))
+            drawn = [each.name for node in tree.body if isinstance(node, ast.ImportFrom) for each in node.names]
+            named = [node for node in ast.walk(tree) if isinstance(node, ast.Name)]
+            for name in drawn:
+                self.assertIn(name, [node.id for node in named], path.name)
+            given = [node.id for node in named if not isinstance(node.ctx, ast.Load)]
+            given += [node.arg for node in ast.walk(tree) if isinstance(node, ast.arg)]
+            given += [node.name for node in ast.walk(tree) if isinstance(node, (ast.FunctionDef, ast.ClassDef))]
+            self.assertEqual([name for name in given if name in drawn], [], path.name)
+
+    def test_each_name_of_a_top_is_bound_once(self):
+        for path in files():
+            bound = []
+            for node in ast.parse(path.read_text("ascii")).body:
+                bound += [each.asname or each.name for each in getattr(node, "names", [])]
+                bound += [node.name] if isinstance(node, (ast.FunctionDef, ast.ClassDef)) else []
+                bound += [each.id for each in getattr(node, "targets", [])]
+            self.assertEqual(len(bound), len(set(bound)), path.name)

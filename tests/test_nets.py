@@ -2,7 +2,7 @@ import itertools
 import unittest
 
 from cheaptree.nets import cheaper, empty, is_net, is_word, open_ties, waiting
-from tests.things import long_chain, no_words, of_no_text, some_words
+from tests.things import kind, long_chain, no_words, of_no_text, some_words
 
 NETS = (
     ((), ()),
@@ -31,11 +31,6 @@ def put(net, path, thing):
     parts = list(net)
     parts[path[0]] = put(parts[path[0]], path[1:], thing)
     return tuple(parts)
-
-
-def kind(thing):
-    """A thing's kind, for a failed test's words: the whole of a doubled tuple could not be written."""
-    return f"{type(thing).__name__} {thing!r}" if isinstance(thing, str) else type(thing).__name__
 
 
 def at(net, path):

@@ -45,6 +45,11 @@ def no_words():
     return texts + of_no_text()
 
 
+def kind(thing):
+    """A thing's kind, for a failed test's words: the whole of a doubled tuple could not be written."""
+    return f"{type(thing).__name__} {thing!r}" if isinstance(thing, str) else type(thing).__name__
+
+
 def some_words(many):
     """Rising words, as many as asked for, each of four letters."""
     letters = "abcdefghijklmnopqrstuvwxyz"
