@@ -1,6 +1,6 @@
 """Forests and trees: ties without a round, what they cost, and the ways along them."""
 
-from cheaptree.nets import are_words, open_ties
+from cheaptree.nets import are_words, open_ties, ties_by_name
 from cheaptree.pieces import came_by, neighbours, pieces
 
 
@@ -27,8 +27,8 @@ def is_tree(net, thing):
 
 def cost_of(net, names):
     """The sum of the costs of the ties with these names, open or not."""
-    costs = {tie[0]: tie[3] for tie in net[1]}
-    return sum([costs[name] for name in names])
+    named = ties_by_name(net)
+    return sum([named[name][3] for name in names])
 
 
 def way(net, forest, one, other):

@@ -66,6 +66,11 @@ def is_open(net, tie):
     return tie[1] in net[0] and tie[2] in net[0]
 
 
+def ties_by_name(net):
+    """The ties of the net, each under its name."""
+    return {tie[0]: tie for tie in net[1]}
+
+
 def open_ties(net):
     """The rising tuple of the names of the open ties."""
     return tuple([tie[0] for tie in net[1] if is_open(net, tie)])
@@ -85,3 +90,20 @@ def cheaper(net, name, other):
     """Whether the tie called name is cheaper than another one; of alike costs the name decides."""
     rank = ranks(net)
     return rank[name] < rank[other]
+
+
+def cheapest_of(net, names):
+    """Of the ties with these names the one to which no other is cheaper; None where there are no names."""
+    rank = ranks(net)
+    return min(names, key=lambda name: rank[name], default=None)
+
+
+def dearest_of(net, names):
+    """Of the ties with these names the one that is cheaper than no other; None where there are no names."""
+    rank = ranks(net)
+    return max(names, key=lambda name: rank[name], default=None)
+
+
+def out_of(net, side):
+    """The rising tuple of the names of the open ties that have just one of their places in side."""
+    return tuple([tie[0] for tie in net[1] if is_open(net, tie) and (tie[1] in side) != (tie[2] in side)])

@@ -44,18 +44,25 @@ def groups(places, ties):
     return sorted([sorted(group) for group in held]), round_made
 
 
+def without_a_round(net, sizes):
+    """All sets of open ties, of these sizes, without a round."""
+    ties = opened(net)
+    sets = [rows for size in sizes for rows in itertools.combinations(ties, size)]
+    return [rows for rows in sets if not groups(net[0], rows)[1]]
+
+
 def all_forests(net):
     """All forests, as tuples of names, by trying all sets of open ties."""
-    ties = opened(net)
-    sets = [rows for size in range(len(ties) + 1) for rows in itertools.combinations(ties, size)]
-    return [tuple([tie[0] for tie in rows]) for rows in sets if not groups(net[0], rows)[1]]
+    return [tuple([tie[0] for tie in rows]) for rows in without_a_round(net, range(len(net[1]) + 1))]
 
 
 def all_trees(net):
     """All trees, the lesser first."""
     named = ties_by_name(net)
     whole = groups(net[0], opened(net))[0]
-    told = [names for names in all_forests(net) if groups(net[0], [named[name] for name in names])[0] == whole]
+    # Each tie without a round makes one group of two, so trees have all the same size.
+    rows = [each for each in without_a_round(net, [len(net[0]) - len(whole)]) if groups(net[0], each)[0] == whole]
+    told = [tuple([tie[0] for tie in each]) for each in rows]
     return sorted(told, key=lambda names: (sum([named[name][3] for name in names]), names))
 
 
