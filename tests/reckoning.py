@@ -20,9 +20,19 @@ def small_nets(many, most_places=5, most_ties=7):
         places = [word for word in words if next(figures) % 8][:most_places]
         pairs = list(itertools.combinations(words, 2))
         costs = COSTS[k % len(COSTS)]
-        names = "pbzcmaxyktrs"[: most_ties - next(figures) % (most_ties + 1) * (k % 3) // 2]
+        names = "pbzcmaxyktrsdnqf"[: most_ties - next(figures) % (most_ties + 1) * (k % 3) // 2]
         ties = [(name,) + pairs[next(figures) % len(pairs)] + (costs[next(figures) % len(costs)],) for name in names]
         yield (tuple(places), tuple(sorted(ties)))
+
+
+def full_nets(many):
+    """Nets of 8 places and 14 ties, which have far more than 200 trees, or hardly fewer."""
+    figures = drawn(814)
+    pairs = list(itertools.combinations("abcdefgh", 2))
+    for k in range(many):
+        costs = COSTS[k % len(COSTS)]
+        ties = [(name,) + pairs[next(figures) % 28] + (costs[next(figures) % len(costs)],) for name in "pbzcmaxyktrsdn"]
+        yield (tuple("abcdefgh"), tuple(sorted(ties)))
 
 
 def ties_by_name(net):
@@ -86,6 +96,23 @@ def ways_by_trying(net, forest, one, other):
     """All ways of the forest from the one to the other, by trying all orders of all ties of it."""
     rows = [row for size in range(len(forest) + 1) for row in itertools.permutations(forest, size)]
     return [row for row in rows if leads(net, row, one, other)]
+
+
+def all_ways(net, one, other):
+    """All ways along open ties from the one to the other, to no place twice."""
+    found = []
+    ahead = [((), (one,))]
+    while ahead:
+        names, seen = ahead.pop()
+        if seen[-1] == other:
+            found.append(names)
+            continue
+        for name, low, high, cost in opened(net):
+            if seen[-1] in (low, high):
+                beyond = low if seen[-1] == high else high
+                if beyond not in seen:
+                    ahead.append((names + (name,), seen + (beyond,)))
+    return found
 
 
 def rank(net, name):

@@ -8,7 +8,7 @@ from cheaptree.papers import cuts, ways
 from tests.reckoning import (
     all_forests, all_trees, crossing, opened, rank, small_nets, ways_by_trying,
 )
-from tests.things import kind, no_words, of_no_text
+from tests.things import all_sets, at, kind, no_words, of_no_text, paths, put
 
 # A piece of four places, one of two, a place without ties, alike costs, parallel ties, and one that waits.
 NET = (
@@ -26,10 +26,6 @@ CUTS = (
 NONE = (empty(), (("a",), ()), (("a", "b"), ()), (("a",), (("t", "a", "b", 1),)))
 
 
-def all_sets(words):
-    return [choice for size in range(len(words) + 1) for choice in itertools.combinations(words, size)]
-
-
 def own_ways(net, tree):
     """For each open tie without its way within, where there is one."""
     told = []
@@ -37,29 +33,6 @@ def own_ways(net, tree):
         if name not in tree:
             told += [(name, along) for along in ways_by_trying(net, tree, one, other)]
     return tuple(told)
-
-
-def put(thing, path, part):
-    """The thing with the part in the place to which the path leads."""
-    if not path:
-        return part
-    parts = list(thing)
-    parts[path[0]] = put(parts[path[0]], path[1:], part)
-    return tuple(parts)
-
-
-def paths(thing):
-    """The paths to all tuples and texts within nested tuples, the whole ahead."""
-    told = [()]
-    if isinstance(thing, tuple):
-        told += [(k,) + path for k, part in enumerate(thing) for path in paths(part)]
-    return told
-
-
-def at(thing, path):
-    for step in path:
-        thing = thing[step]
-    return thing
 
 
 class LooksTest(unittest.TestCase):

@@ -1,8 +1,11 @@
 """What is promised of all of it together, in nets of full size, where trying all would take too long."""
 
+import itertools
 import unittest
 
 from cheaptree.cheapest import cheapest
+from cheaptree.counting import how_many
+from cheaptree.dearest import dearest, shows_dearest
 from cheaptree.deeds import changed
 from cheaptree.errors import TreeError
 from cheaptree.exchanges import exchange, shows_exchange
@@ -10,7 +13,9 @@ from cheaptree.margins import margin
 from cheaptree.nets import empty, is_net
 from cheaptree.paperlooks import shows_by_cuts, shows_by_ways
 from cheaptree.papers import cuts, ways
-from tests.reckoning import drawn
+from cheaptree.pieces import pieces
+from cheaptree.trees import tree_at, trees
+from tests.reckoning import drawn, full_nets
 
 WORDS = "abcdefghijkl"
 
@@ -94,3 +99,19 @@ class WholeTest(unittest.TestCase):
                 for each in order:
                     built = changed(built, each)
                 self.assertEqual((built, cheapest(built)), (behind, cheapest(behind)))
+
+    def test_between_two_places_a_side_shows_the_dearest_tie(self):
+        for net, deed, behind in list(nets_on_the_way(5, 1500))[::40]:
+            held = {place: piece for piece in pieces(behind) for place in piece}
+            for one, other in itertools.permutations(behind[0], 2):
+                told = dearest(behind, one, other)
+                self.assertEqual(told is None, held[one] != held[other])
+                self.assertIs(shows_dearest(behind, one, other, told), told is not None)
+
+    def test_the_next_trees_are_as_many_as_are_counted(self):
+        for net in full_nets(6):
+            told = trees(net, 10**6)
+            self.assertEqual(len(told), how_many(net))
+            self.assertEqual(len(set(told)), len(told))
+            self.assertEqual((told[0], told[-1]), (cheapest(net), tree_at(net, len(told) - 1)))
+            self.assertEqual(trees(net, 200), told[:200])

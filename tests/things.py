@@ -61,3 +61,32 @@ def long_chain(many):
     words = some_words(many)
     ties = [(words[k], words[k], words[k + 1], (-1) ** k * 10**k) for k in range(many - 1)]
     return (tuple(words), tuple(ties))
+
+
+def all_sets(words):
+    """All choices of the words, each in their order, the lesser sizes first."""
+    return [choice for size in range(len(words) + 1) for choice in itertools.combinations(words, size)]
+
+
+def put(thing, path, part):
+    """The thing with the part in the place to which the path leads."""
+    if not path:
+        return part
+    parts = list(thing)
+    parts[path[0]] = put(parts[path[0]], path[1:], part)
+    return tuple(parts)
+
+
+def paths(thing):
+    """The paths to all tuples and texts within nested tuples, the whole ahead."""
+    told = [()]
+    if isinstance(thing, tuple):
+        told += [(k,) + path for k, part in enumerate(thing) for path in paths(part)]
+    return told
+
+
+def at(thing, path):
+    """What lies in the thing where the path leads."""
+    for step in path:
+        thing = thing[step]
+    return thing
