@@ -22,6 +22,12 @@ WORDS = re.compile(
     r"|NamedTuple|TypedDict|TYPE_CHECKING|abstractmethod)\b|dataclass|overload|contextmanager"
 )
 
+METHODS = set(
+    "append clear copy count endswith extend find get index insert isalnum isalpha isdigit islower isspace isupper items "
+    "join keys ljust lower lstrip partition pop remove replace reverse rfind rjust rpartition rsplit rstrip setdefault "
+    "split splitlines startswith strip update upper values zfill bit_length add discard".split()
+)
+
 
 def files():
     return [path for path in sorted(PACKAGE.iterdir()) if path.name != "__pycache__"]
@@ -95,3 +101,42 @@ class LanguageTest(unittest.TestCase):
                 bound += [node.name] if isinstance(node, (ast.FunctionDef, ast.ClassDef)) else []
                 bound += [each.id for each in getattr(node, "targets", [])]
             self.assertEqual(len(bound), len(set(bound)), path.name)
+
+    def test_is_stands_beside_none_true_and_false_alone(self):
+        for node, where in nodes():
+            if isinstance(node, ast.Compare) and any([isinstance(op, (ast.Is, ast.IsNot)) for op in node.ops]):
+                self.assertEqual([type(part) for part in node.comparators], [ast.Constant], where)
+                self.assertIn(node.comparators[0].value, (None, True, False), where)
+
+    def test_loops_have_no_else_and_texts_no_percent(self):
+        for node, where in nodes():
+            if isinstance(node, (ast.For, ast.While)):
+                self.assertEqual(node.orelse, [], where)
+            if isinstance(node, ast.Constant) and isinstance(node.value, str):
+                self.assertNotIn("%", node.value, where)
+
+    def test_methods_and_values(self):
+        own, given, called = set(), set(), []
+        for node, where in nodes():
+            if isinstance(node, ast.ClassDef):
+                own |= {each.name for each in node.body if isinstance(each, ast.FunctionDef)}
+            if isinstance(node, ast.Attribute) and isinstance(node.ctx, ast.Store):
+                given.add(node.attr)
+            if isinstance(node, ast.Call) and isinstance(node.func, ast.Attribute):
+                called.append((node.func.attr, where))
+        self.assertEqual(own & given, set())
+        for name in own | given:
+            kept = name == "__init__" or not any([hasattr(kind, name) for kind in (str, int, list, dict, set, bytes, tuple)])
+            self.assertTrue(kept, name)
+        for name, where in called:
+            self.assertIn(name, METHODS | own, where)
+
+    def test_no_two_files_draw_from_one_another(self):
+        draws = {}
+        for path in files():
+            body = ast.parse(path.read_text("ascii")).body
+            draws[path.stem] = [node.module.split(".")[1] for node in body if isinstance(node, ast.ImportFrom)]
+        while draws:
+            free = [name for name in draws if not any([each in draws for each in draws[name]])]
+            self.assertNotEqual(free, [], sorted(draws))
+            draws = {name: each for name, each in draws.items() if name not in free}
